@@ -1,0 +1,1 @@
+"""Scriptsamid: programs of packages amid an upgrade."""
