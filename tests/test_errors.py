@@ -1,5 +1,6 @@
 """Section 2 and the interface: the errors."""
 
+import inspect
 import unittest
 
 from scriptsamid import errors
@@ -30,6 +31,12 @@ class Errors(unittest.TestCase):
             for value in ANY_VALUES:
                 for error in (getattr(errors, name)(value), getattr(errors, name)(value=value)):
                     self.assertIs(error.value, value)
+
+    def test_each_is_made_by_what_stands_in_its_own_class(self):
+        for name in NAMES + ["ScriptError"]:
+            own = vars(getattr(errors, name)).get("__init__")
+            self.assertIsNotNone(own, name)
+            self.assertEqual(list(inspect.signature(own).parameters), ["self", "value"], name)
 
     def test_each_is_caught_by_its_own_name_and_by_its_base(self):
         for name in NAMES:
