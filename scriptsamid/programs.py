@@ -3,11 +3,12 @@
 from scriptsamid.commands import has_word, is_command_of
 from scriptsamid.errors import BadProgram, BadWords, NoProgram
 from scriptsamid.forms import PROGRAM_NAMES, is_name
+from scriptsamid.values import is_integer, is_row
 
 
 def is_words(release, value):
     """Whether any value is words of a house of this release."""
-    if not isinstance(value, tuple) or len(value) != len(release.cells):
+    if not is_row(value, len(release.cells)):
         return False
     return all([word in release.words_of[cell] for cell, word in zip(release.cells, value)])
 
@@ -59,7 +60,7 @@ def is_place(release, package, edition, name):
     """Whether a program with this name may stand in this edition of the package, or beside its editions for 0."""
     if not isinstance(package, str) or package not in release.parts:
         return False
-    if not isinstance(name, str) or not isinstance(edition, int) or isinstance(edition, bool):
+    if not isinstance(name, str) or not is_integer(edition):
         return False
     if name.startswith("at "):
         return edition == 0 and is_name(name[3:])
@@ -68,27 +69,43 @@ def is_place(release, package, edition, name):
 
 def done(release, program, words):
     """What is behind a run: (words, wakes, failed); raises BadProgram, BadWords."""
-    refuse_run(release, program, words)
+    refuse_program(release, program)
+    refuse_words(release, words)
+    return whole_run(release, program, words)
+
+
+def cuts(release, program, words):
+    """Where the house may stop in a run, as (words, wakes) behind each command; raises BadProgram, BadWords."""
+    refuse_program(release, program)
+    refuse_words(release, words)
+    return stops(release, program, words)
+
+
+def refuse_program(release, program):
+    """Raises BadProgram if any value is no program of the release."""
+    if not is_program(release, program):
+        raise BadProgram(program)
+
+
+def refuse_words(release, words):
+    """Raises BadWords if any value is no words of the release."""
+    if not is_words(release, words):
+        raise BadWords(words)
+
+
+def whole_run(release, program, words):
+    """What done tells of a program and words that are known to be such."""
     states = [(words, ())]
     failed = run_commands(release, program, states)
     behind, wakes = states[-1]
     return behind, wakes, failed
 
 
-def cuts(release, program, words):
-    """Where the house may stop in a run, as (words, wakes) behind each command; raises BadProgram, BadWords."""
-    refuse_run(release, program, words)
+def stops(release, program, words):
+    """What cuts tells of a program and words that are known to be such."""
     states = [(words, ())]
     run_commands(release, program, states)
     return tuple(states[1:])
-
-
-def refuse_run(release, program, words):
-    """Raises what is wrong with a program and words."""
-    if not is_program(release, program):
-        raise BadProgram(program)
-    if not is_words(release, words):
-        raise BadWords(words)
 
 
 def run_commands(release, program, states):
@@ -114,7 +131,7 @@ def state_behind(release, command, state):
     """The (words, wakes) behind a set, a copy or a wake."""
     words, wakes = state
     if command[0] == "wake":
-        return words, tuple(sorted(set(wakes + (command[1],))))
+        return words, joined(wakes, (command[1],))
     if command[0] == "copy":
         word = words[release.cells.index(command[1])]
         place = release.cells.index(command[2])
@@ -122,3 +139,8 @@ def state_behind(release, command, state):
         word = command[2]
         place = release.cells.index(command[1])
     return words[:place] + (word,) + words[place + 1:], wakes
+
+
+def joined(wakes, more):
+    """The ascending tuple of the triggers of both."""
+    return tuple(sorted(set(wakes + more)))

@@ -9,7 +9,8 @@ class Release:
     """A release that was read from its text.
 
     text, cells, packages and sets are what the document promises. For the other files of the package there are
-    words_of, the words of the cells by their names; triggers; and parts, the packages by their names.
+    words_of, the words of the cells by their names; triggers; homes, the packages of the triggers by their names;
+    parts, the packages by their names; and members, for each set the editions of its packages by their names.
     """
 
     def __init__(self, text):
@@ -24,6 +25,8 @@ class Release:
         self.words_of = draft.cells
         self.triggers = tuple(draft.triggers)
         self.parts = draft.packages
+        self.homes = {trigger: name for name in draft.packages for trigger in draft.packages[name].at_programs}
+        self.members = draft.sets
 
     def __eq__(self, other):
         return isinstance(other, Release) and self.text == other.text

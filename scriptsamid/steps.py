@@ -1,4 +1,4 @@
-"""Which steps an upgrade from one set to another one has."""
+"""Which steps an upgrade from one set to another one has, and their programs."""
 
 
 def package_steps(name, elder, newer):
@@ -30,3 +30,21 @@ def upgrade_steps(packages, elder, newer):
             package = packages[name]
             steps.extend(package_steps(name, package.edition(one), package.edition(other)))
     return tuple(steps)
+
+
+def lay_program(words_of, elder, newer):
+    """The program that lays what the edition newer lays in place of what elder lays, each None if it is not there.
+
+    words_of are the words of the cells by their names.
+    """
+    taken = [] if elder is None else [("set", cell, words_of[cell][0]) for cell, _ in elder.lays]
+    laid = [] if newer is None else [("set", cell, word) for cell, word in newer.lays]
+    return tuple(taken + laid)
+
+
+def step_programs(words_of, word, elder, newer):
+    """The program and the counter-program of the step with this word of a package that goes from elder to newer."""
+    if word == "lay":
+        return lay_program(words_of, elder, newer), lay_program(words_of, newer, elder)
+    edition = elder if word in ("leaves", "gone") else newer
+    return edition.programs[word], edition.programs.get("back " + word, ())

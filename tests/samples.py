@@ -1,7 +1,11 @@
 """Releases and values that several tests use."""
 
+import itertools
+
 from scriptsamid.errors import ScriptError
+from scriptsamid.programs import cuts
 from scriptsamid.releases import Release
+from scriptsamid.upgrades import Upgrade
 
 WEB = """cell mode off slow fast
 cell log none a b
@@ -139,3 +143,98 @@ def text_with(*commands):
     """The text of a release with a program of these commands, the first of them on line 5."""
     below = [f"      {command}" for command in commands]
     return text_of(packages=["package p", "  edition 1", "    before", *below, "  at t", "    fail"])
+
+
+# Two cells of the same words and two triggers, for the tests that try all programs of a few commands.
+PAIR = text_of(packages=["package p", "  edition 1", "  at t", "    fail", "  at u", "    set a y"])
+PAIR_WORDS = [("x", "x"), ("x", "y"), ("y", "x"), ("y", "y")]
+PAIR_COMMANDS = [
+    ("set", "a", "y"), ("set", "b", "x"), ("copy", "a", "b"), ("wake", "t"), ("fail",),
+    ("if", "a", "x", (("wake", "u"), ("set", "b", "y")), ()), ("if", "b", "y", (("fail",),), (("set", "a", "x"),)),
+]
+
+
+def some_programs(most, stride):
+    """Programs of at most so many of PAIR_COMMANDS, those of the greatest number by strides."""
+    short = [row for many in range(most) for row in itertools.product(PAIR_COMMANDS, repeat=many)]
+    return short + list(itertools.product(PAIR_COMMANDS, repeat=most))[::stride]
+
+
+def both(wakes, more):
+    """The ascending tuple of the triggers of both."""
+    return tuple(sorted({*wakes, *more}))
+
+
+def rows_of_cuts(release, program, start, most):
+    """All rows of at most so many numbers of cuts, by size, each with the (words, wakes) behind it."""
+    layer = [((), start)]
+    for _ in range(most + 1):
+        yield from layer
+        layer = [
+            (row + (number,), (cut, both(wakes, more)))
+            for row, (words, wakes) in layer
+            for number, (cut, more) in enumerate(cuts(release, program, words))
+        ]
+
+
+def bent(value):
+    """Values that are like a tuple but for one part, or its kind, or its sequence."""
+    yield list(value)
+    yield value + value[:1]
+    yield value[:-1]
+    for place in range(len(value)):
+        yield value[:place] + ([value[place]],) + value[place + 1:]
+        yield value[:place] + (None,) + value[place + 1:]
+        if isinstance(value[place], tuple) and value[place]:
+            for part in bent(value[place]):
+                yield value[:place] + (part,) + value[place + 1:]
+
+
+def edition(*, needs=(), lays=(), programs=()):
+    """The lines below an edition; each program is its name and then its commands."""
+    lines = [f"    needs {need}" for need in needs] + [f"    lays {laid}" for laid in lays]
+    for name, *commands in programs:
+        lines += [f"    {name}"] + [f"      {command}" for command in commands]
+    return lines
+
+
+def package(name, *editions, triggers=()):
+    """The lines of a package; each at program is its trigger and then its commands."""
+    lines = [f"package {name}"]
+    for number, below in enumerate(editions):
+        lines += [f"  edition {number + 1}"] + below
+    for trigger, *commands in triggers:
+        lines += [f"  at {trigger}"] + [f"    {command}" for command in commands]
+    return lines
+
+
+def town(*sets):
+    """A release with these sets behind an empty one; p has all programs in one edition, q needs p, and r needs both."""
+    first = edition(lays=["a y"], programs=[
+        ("before", "set b y"), ("back before", "set b x"), ("behind", "copy a to b", "wake t"),
+        ("leaves", "set c z"), ("back leaves", "set c x"), ("gone", "wake u"), ("back gone", "fail"),
+    ])
+    second = edition(lays=["b y", "a y"], programs=[("behind", "set c y"), ("back behind", "set c x")])
+    parts = [
+        package("p", first, second, triggers=[("t", "set c y")]),
+        package(
+            "q",
+            edition(needs=["p"], lays=["c y"], programs=[("leaves", "copy b to a"), ("behind", "copy a to b")]),
+            edition(needs=["p"], programs=[("behind", "if a = y", "  wake t"), ("gone", "set a x")]),
+            triggers=[("u", "set a y")],
+        ),
+        package("r", edition(needs=["p", "q"], programs=[("behind", "set b x")]), edition(programs=[("gone", "fail")])),
+    ]
+    lines = [f"set {name}{members}" for name, members in zip(("none", "one", "two", "three"), ("",) + sets)]
+    cells = ["cell a x y", "cell b x y", "cell c x y z"]
+    return Release(text_of(cells=cells, packages=[line for part in parts for line in part], sets=lines))
+
+
+TOWNS = [(" p 1", " p 2 q 1", " p 2"), (" p 2 q 2", " p 2 q 1 r 1", " p 2"), (" p 2 q 2 r 2", " r 2", " p 2 q 1 r 2")]
+
+
+def upgrade_of(packages, *, cells=("cell a x y", "cell b x y"), elder=(), newer=("p 1", "q 1"), leanings=()):
+    """The upgrade from one to the other of two sets of such packages."""
+    sets = ["set none", " ".join(["set elder", *elder]), " ".join(["set newer", *newer])]
+    lines = [line for part in packages for line in part]
+    return Upgrade(Release(text_of(cells=cells, packages=lines, sets=sets)), "elder", "newer", leanings=leanings)

@@ -6,24 +6,64 @@ import importlib
 import inspect
 import unittest
 
+from scriptsamid.again import again, shows_again
+from scriptsamid.back import back, could, shows_back, shows_could
 from scriptsamid.errors import NoProgram, ScriptError
+from scriptsamid.orders import one_end, plain, shows_one_end, shows_some_order, some_order
 from scriptsamid.programs import cuts, done, first_words, is_program, is_words, program_at
 from scriptsamid.releases import Release
+from scriptsamid.upgrades import Upgrade
 from samples import ANY_VALUES, HOUSE, WEB
 
+# The parameters of each function and class; those behind a * are passed by name alone.
 LISTED = {
-    "releases": {"Release": ["text"]},
+    "releases": {"Release": "text"},
     "programs": {
-        "is_words": ["release", "value"],
-        "first_words": ["release"],
-        "is_program": ["release", "value"],
-        "program_at": ["release", "package", "edition", "name"],
-        "done": ["release", "program", "words"],
-        "cuts": ["release", "program", "words"],
+        "is_words": "release value", "first_words": "release", "is_program": "release value",
+        "program_at": "release package edition name", "done": "release program words", "cuts": "release program words",
+    },
+    "again": {"again": "release program words", "shows_again": "release program words value"},
+    "back": {
+        "back": "release program counter words", "shows_back": "release program counter words value",
+        "could": "release program some", "shows_could": "release program some value",
+    },
+    "upgrades": {"Upgrade": "release elder newer * leanings"},
+    "orders": {
+        "plain": "upgrade words", "one_end": "upgrade words", "shows_one_end": "upgrade words value",
+        "some_order": "upgrade words", "shows_some_order": "upgrade words value",
+    },
+}
+# The methods that are listed for a class, with their parameters behind self.
+METHODS = {
+    "releases": {"Release": {"__init__": "text", "__eq__": "other"}},
+    "upgrades": {
+        "Upgrade": {
+            "__init__": "release elder newer * leanings", "__eq__": "other", "orders": "", "program": "step",
+            "counter": "step",
+        },
     },
 }
 START = ("x", "x", "x", "y")
 PROGRAM = (("set", "a", "y"), ("wake", "t"), ("if", "b", "x", (("fail",),), ()))
+COUNTER = (("set", "a", "x"),)
+
+
+def parameters(call):
+    """The names of the parameters of a function or class, a * ahead of those that are passed by name alone."""
+    told = []
+    for parameter in inspect.signature(call).parameters.values():
+        if parameter.kind == inspect.Parameter.KEYWORD_ONLY and "*" not in told:
+            told.append("*")
+        told.append(parameter.name)
+    return " ".join(told)
+
+
+def outcome(call, *arguments, **named):
+    """What a call returns, or how it refuses."""
+    try:
+        return call(*arguments, **named)
+    except ScriptError as error:
+        return error.__class__.__name__, error.value
 
 
 class Places(unittest.TestCase):
@@ -40,79 +80,133 @@ class Places(unittest.TestCase):
         for name, members in LISTED.items():
             module = importlib.import_module(f"scriptsamid.{name}")
             for member, wanted in members.items():
-                told = inspect.signature(getattr(module, member)).parameters
-                self.assertEqual(list(told), wanted)
-                for parameter in told.values():
-                    self.assertEqual(parameter.kind, inspect.Parameter.POSITIONAL_OR_KEYWORD)
+                self.assertEqual(parameters(getattr(module, member)), wanted, member)
+                for parameter in inspect.signature(getattr(module, member)).parameters.values():
+                    kinds = (inspect.Parameter.POSITIONAL_OR_KEYWORD, inspect.Parameter.KEYWORD_ONLY)
+                    self.assertIn(parameter.kind, kinds)
+
+    def test_methods_stand_in_their_own_class(self):
+        for name, classes in METHODS.items():
+            module = importlib.import_module(f"scriptsamid.{name}")
+            for class_name, methods in classes.items():
+                for method, wanted in methods.items():
+                    told = parameters(vars(getattr(module, class_name))[method])
+                    self.assertEqual(told.split(" ")[1:], wanted.split(), method)
 
     def test_errors_are_defined_in_their_file(self):
         module = importlib.import_module("scriptsamid.errors")
         self.assertEqual(inspect.getsource(module).count("import"), 0)
-
-    def test_release_compares_by_its_own_method(self):
-        self.assertIn("__eq__", vars(Release))
-        self.assertIn("__init__", vars(Release))
 
 
 class Calls(unittest.TestCase):
 
     def setUp(self):
         self.release = Release(HOUSE)
+        self.upgrade = Upgrade(self.release, "none", "one")
+
+    def calls(self):
+        """Each function of the interface with arguments that it takes, in their sequence."""
+        release, upgrade = self.release, self.upgrade
+        starts = again(release, PROGRAM, START)
+        left = back(release, PROGRAM, COUNTER, START)
+        table = could(release, PROGRAM, (START,))
+        return [
+            (Release, [HOUSE]),
+            (is_words, [release, START]), (first_words, [release]), (is_program, [release, PROGRAM]),
+            (program_at, [release, "p", 1, "before"]), (done, [release, PROGRAM, START]),
+            (cuts, [release, PROGRAM, START]),
+            (again, [release, PROGRAM, START]), (shows_again, [release, PROGRAM, START, starts]),
+            (back, [release, PROGRAM, COUNTER, START]), (shows_back, [release, PROGRAM, COUNTER, START, left]),
+            (could, [release, PROGRAM, (START,)]), (shows_could, [release, PROGRAM, (START,), table]),
+            (Upgrade, [release, "none", "one"]), (plain, [upgrade, START]), (one_end, [upgrade, START]),
+            (shows_one_end, [upgrade, START, one_end(upgrade, START)]), (some_order, [upgrade, START]),
+            (shows_some_order, [upgrade, START, some_order(upgrade, START)]),
+        ]
+
+    def test_all_that_is_listed_is_called(self):
+        called = [call.__name__ for call, _ in self.calls()]
+        self.assertEqual(called, [member for members in LISTED.values() for member in members])
 
     def test_by_position_and_by_name(self):
-        release = self.release
-        self.assertEqual(Release(HOUSE), Release(text=HOUSE))
-        self.assertTrue(is_words(release, START) and is_words(release=release, value=START))
-        self.assertEqual(first_words(release), first_words(release=release))
-        self.assertTrue(is_program(release, PROGRAM) and is_program(value=PROGRAM, release=release))
-        named = program_at(release=release, package="p", edition=1, name="before")
-        self.assertEqual(program_at(release, "p", 1, "before"), named)
-        for call in (done, cuts):
-            self.assertEqual(call(release, PROGRAM, START), call(words=START, program=PROGRAM, release=release))
-        self.assertEqual(done(release, PROGRAM, START), (("y", "x", "x", "y"), ("t",), True))
+        for call, arguments in self.calls():
+            names = [name for name in inspect.signature(call).parameters][:len(arguments)]
+            named = dict(list(zip(names, arguments))[::-1])
+            self.assertEqual(call(*arguments), call(**named), call)
+            if call.__name__.startswith("shows"):
+                self.assertIs(call(**named), True, call)
         with self.assertRaises(NoProgram):
-            program_at(release=release, package="p", edition=True, name="before")
+            program_at(release=self.release, package="p", edition=True, name="before")
 
-    def test_attributes_are_set_when_a_release_is_made(self):
+    def test_those_behind_a_star_by_name_alone(self):
+        leanings = ((("p", "before"), ("p", "behind")),)
+        named = Upgrade(leanings=leanings, newer="one", elder="none", release=self.release)
+        self.assertEqual(named, Upgrade(self.release, "none", "one", leanings=leanings))
+        self.assertEqual(named.leanings, leanings)
+        with self.assertRaises(TypeError):
+            Upgrade(self.release, "none", "one", leanings)
+
+    def test_methods_by_position_and_by_name(self):
+        step = ("p", "before")
+        self.assertEqual(self.upgrade.program(step), self.upgrade.program(step=step))
+        self.assertEqual(self.upgrade.counter(step), self.upgrade.counter(step=step))
+        self.assertEqual(self.upgrade.counter(step), (("set", "a", "z"),))
+
+    def test_equal_calls_return_equal_results(self):
+        for call, arguments in self.calls():
+            self.assertEqual(call(*arguments), call(*copy.deepcopy(arguments)), call)
+        self.assertEqual(list(self.upgrade.orders()), list(self.upgrade.orders()))
+
+    def test_attributes_are_set_when_an_object_is_made(self):
         for text in (WEB, HOUSE):
             release = Release(text)
             for name in ("text", "cells", "packages", "sets"):
                 self.assertTrue(hasattr(release, name))
             for names in (release.cells, release.packages, release.sets):
                 self.assertIs(names.__class__, tuple)
+        for name in ("release", "elder", "newer", "leanings", "steps"):
+            self.assertTrue(hasattr(self.upgrade, name))
+        for row in (self.upgrade.leanings, self.upgrade.steps):
+            self.assertIs(row.__class__, tuple)
 
     def test_returned_sequences_are_tuples(self):
-        release = self.release
-        for told in (
-            first_words(release), program_at(release, "p", 1, "before"), done(release, PROGRAM, START),
-            done(release, PROGRAM, START)[0], done(release, PROGRAM, START)[1], cuts(release, PROGRAM, START),
-            cuts(release, PROGRAM, START)[0], cuts(release, PROGRAM, START)[1][1],
-        ):
-            self.assertIs(told.__class__, tuple)
+        told = [call(*arguments) for call, arguments in self.calls() if call not in (Release, Upgrade)]
+        told += [self.upgrade.steps, next(self.upgrade.orders()), self.upgrade.program(("p", "lay"))]
+        told += [outcome(plain, Upgrade(self.release, "one", "none"), START)]
+        told += [some_order(Upgrade(self.release, "one", "none"), START), could(self.release, COUNTER, (START,))]
+        while told:
+            value = told.pop()
+            self.assertIn(value.__class__, (tuple, str, int, bool, type(None)))
+            if isinstance(value, tuple):
+                told += value
 
     def test_what_is_handed_in_stays_as_it_was(self):
         values = [*ANY_VALUES, list(PROGRAM), [list(command) for command in PROGRAM], list(START)]
-        calls = [
-            Release, lambda value: is_words(self.release, value), lambda value: is_program(self.release, value),
-            lambda value: program_at(self.release, value, value, value), lambda value: done(self.release, value, START),
-            lambda value: cuts(self.release, PROGRAM, value),
-        ]
         for value in values:
             before = copy.deepcopy(value)
-            for call in calls:
-                try:
-                    call(value)
-                except ScriptError:
-                    pass
-                self.assertEqual(repr(value), repr(before))
+            for call, arguments in self.calls():
+                for place in range(len(arguments)):
+                    if arguments[place].__class__ not in (Release, Upgrade) and (call, place) != (could, 2):
+                        if (call, place) != (shows_could, 2):
+                            outcome(call, *arguments[:place], value, *arguments[place + 1:])
+            outcome(Upgrade, self.release, "none", "one", leanings=value)
+            outcome(self.upgrade.program, value)
+            self.assertEqual(repr(value), repr(before))
 
-    def test_calls_do_not_change_the_release(self):
-        before = [program_at(self.release, "p", 1, "before"), program_at(self.release, "p", 0, "at u")]
-        done(self.release, before[1], START)
-        cuts(self.release, before[0], START)
-        self.assertEqual([program_at(self.release, "p", 1, "before"), program_at(self.release, "p", 0, "at u")], before)
+    def test_calls_do_not_change_the_release_and_the_upgrade(self):
+        before = self.told()
+        for call, arguments in self.calls():
+            call(*arguments)
+        list(self.upgrade.orders())
+        self.assertEqual(self.told(), before)
         self.assertEqual((self.release.text, self.release.cells), (HOUSE, ("a", "b", "c", "d")))
-        self.assertEqual(first_words(self.release), START)
+
+    def told(self):
+        upgrade = self.upgrade
+        return [
+            program_at(self.release, "p", 1, "before"), program_at(self.release, "p", 0, "at u"),
+            first_words(self.release), upgrade.elder, upgrade.newer, upgrade.steps, upgrade.leanings,
+            upgrade.program(("p", "before")), upgrade.counter(("p", "before")), list(upgrade.orders()),
+        ]
 
 
 if __name__ == "__main__":
