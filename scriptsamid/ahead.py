@@ -59,6 +59,16 @@ def numbers_ahead(steps, pairs):
     return tuple([tuple([steps.index(one) for one, other in pairs if other == step]) for step in steps])
 
 
+def far_ahead(ahead):
+    """For each step the numbers of those that must be ahead of it, also over other steps, ascending."""
+    far = []
+    for needed in ahead:
+        # All that are needed stand ahead in the told order, so their own rows are there already.
+        farther = [one for number in needed for one in far[number]]
+        far.append(sorted(set(list(needed) + farther)))
+    return far
+
+
 def ready_numbers(ahead, numbers):
     """The numbers of the steps that are not among these while all that must be ahead of them are, ascending."""
     ready = []

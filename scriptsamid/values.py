@@ -14,3 +14,8 @@ def is_below(value, many):
 def is_row(value, many):
     """Whether any value is a tuple of so many."""
     return isinstance(value, tuple) and len(value) == many
+
+
+def is_ascending(rows):
+    """Whether each of these is less than the next one."""
+    return all([one < other for one, other in zip(rows, rows[1:])])

@@ -3,7 +3,7 @@
 import itertools
 
 from scriptsamid.errors import ScriptError
-from scriptsamid.programs import cuts
+from scriptsamid.programs import cuts, done
 from scriptsamid.releases import Release
 from scriptsamid.upgrades import Upgrade
 
@@ -238,3 +238,69 @@ def upgrade_of(packages, *, cells=("cell a x y", "cell b x y"), elder=(), newer=
     sets = ["set none", " ".join(["set elder", *elder]), " ".join(["set newer", *newer])]
     lines = [line for part in packages for line in part]
     return Upgrade(Release(text_of(cells=cells, packages=lines, sets=sets)), "elder", "newer", leanings=leanings)
+
+
+def pair_of(one, other, **sets):
+    """The upgrade to p and q with these commands behind, with triggers t of p and u of q."""
+    parts = [
+        package("p", edition(programs=[("behind", *one)]), triggers=[("t", "set a y")]),
+        package("q", edition(programs=[("behind", *other)]), triggers=[("u", "set b y")]),
+    ]
+    return upgrade_of(parts, **sets)
+
+
+def one_of(behind, back, *triggers, lays=()):
+    """The upgrade to p alone with these commands behind, their counter-program and at programs."""
+    programs = [("behind", *behind)] + ([("back behind", *back)] if back else [])
+    return upgrade_of([package("p", edition(lays=lays, programs=programs), triggers=triggers)], newer=["p 1"])
+
+
+XX, XY, YX, YY = list(itertools.product("xy", repeat=2))
+PL, PB, QL, QB = ("p", "lay"), ("p", "behind"), ("q", "lay"), ("q", "behind")
+PARTS = pair_of(["set a y"], ["copy a to b"])
+WAKING = pair_of(["set a y"], ["if a = y", "  wake u"])
+# Behind p, q fails.
+FAILING = pair_of(["set a y"], ["if a = y", "  fail"])
+BAD = pair_of(["set a y"], ["fail"])
+ALIKE = pair_of(["set a y", "wake u"], ["set b y", "wake t"])
+LAID = one_of(["set b y"], ["set b x"], lays=["a y"])
+# Behind its first cut the at program fails when it is run again; all else goes well.
+STUCK = one_of(
+    ["set a y", "wake t"], ["set a x"], ("t", "if a = x", "  fail", "else", "  set a x", "  set b y"),
+)
+# Stopped and run again without a stop the at program fails; stopped once more and run again it does not.
+TWICE = one_of(["wake t"], [], ("t", "if b = x", "  set b y", "else", "  if a = x", "    set a y", "    fail"))
+# Turned, the at program of q, which both sets have, wakes itself for ever.
+LOOPING = upgrade_of([
+    package("p", edition(lays=["a y"], programs=[("behind", "wake t")])),
+    package("q", edition(), triggers=[("t", "if a = x", "  wake t")]),
+], elder=["q 1"], newer=["p 1", "q 1"])
+UNTAKEN = one_of(["set a y"], [])
+
+
+def town_upgrades():
+    """Upgrades of several releases, with words."""
+    for sets in TOWNS:
+        release = town(*sets)
+        for elder, newer in itertools.permutations(release.sets, 2):
+            for words in (("x", "x", "x"), ("y", "x", "z"), ("x", "y", "y")):
+                yield Upgrade(release, elder, newer), words
+    for upgrade in (PARTS, WAKING, FAILING, BAD, ALIKE):
+        for words in (XX, XY, YX, YY):
+            yield upgrade, words
+
+
+def row_end(upgrade, words, row):
+    """The (words, wakes) behind a row of steps, None if a step fails."""
+    wakes = ()
+    for step in row:
+        words, more, failed = done(upgrade.release, upgrade.program(step), words)
+        if failed:
+            return None
+        wakes = both(wakes, more)
+    return words, wakes
+
+
+def numbered(upgrade, row):
+    """The numbers of the steps of a row in the told order."""
+    return tuple(upgrade.steps.index(step) for step in row)

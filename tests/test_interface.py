@@ -9,10 +9,13 @@ import unittest
 from scriptsamid.again import again, shows_again
 from scriptsamid.back import back, could, shows_back, shows_could
 from scriptsamid.errors import NoProgram, ScriptError
+from scriptsamid.leanings import fewest, shows_fewest
 from scriptsamid.orders import one_end, plain, shows_one_end, shows_some_order, some_order
 from scriptsamid.programs import cuts, done, first_words, is_program, is_words, program_at
 from scriptsamid.releases import Release
+from scriptsamid.runs import choices, chosen, good, shows_bad
 from scriptsamid.upgrades import Upgrade
+from scriptsamid.ways import shows_way, turning, way
 from samples import ANY_VALUES, HOUSE, WEB
 
 # The parameters of each function and class; those behind a * are passed by name alone.
@@ -32,6 +35,14 @@ LISTED = {
         "plain": "upgrade words", "one_end": "upgrade words", "shows_one_end": "upgrade words value",
         "some_order": "upgrade words", "shows_some_order": "upgrade words value",
     },
+    "leanings": {"fewest": "upgrade words", "shows_fewest": "upgrade words value"},
+    "runs": {
+        "choices": "upgrade moment", "chosen": "upgrade moment choice * stop", "good": "upgrade words",
+        "shows_bad": "upgrade words value",
+    },
+    "ways": {
+        "way": "upgrade words * moment to", "shows_way": "upgrade words value * moment to", "turning": "upgrade words",
+    },
 }
 # The methods that are listed for a class, with their parameters behind self.
 METHODS = {
@@ -46,6 +57,8 @@ METHODS = {
 START = ("x", "x", "x", "y")
 PROGRAM = (("set", "a", "y"), ("wake", "t"), ("if", "b", "x", (("fail",),), ()))
 COUNTER = (("set", "a", "x"),)
+FIRST = (START, (), (), None, "on")
+BEGIN = ("begin", ("p", "before"))
 
 
 def parameters(call):
@@ -121,6 +134,10 @@ class Calls(unittest.TestCase):
             (Upgrade, [release, "none", "one"]), (plain, [upgrade, START]), (one_end, [upgrade, START]),
             (shows_one_end, [upgrade, START, one_end(upgrade, START)]), (some_order, [upgrade, START]),
             (shows_some_order, [upgrade, START, some_order(upgrade, START)]),
+            (fewest, [upgrade, START]), (shows_fewest, [upgrade, START, fewest(upgrade, START)]),
+            (choices, [upgrade, FIRST]), (chosen, [upgrade, FIRST, BEGIN]), (good, [upgrade, START]),
+            (shows_bad, [upgrade, START, good(upgrade, START)]), (way, [upgrade, START]),
+            (shows_way, [upgrade, START, way(upgrade, START)]), (turning, [upgrade, START]),
         ]
 
     def test_all_that_is_listed_is_called(self):
@@ -144,6 +161,22 @@ class Calls(unittest.TestCase):
         self.assertEqual(named.leanings, leanings)
         with self.assertRaises(TypeError):
             Upgrade(self.release, "none", "one", leanings)
+
+    def test_stops_moments_and_goals_by_name_alone(self):
+        upgrade = self.upgrade
+        opened = ((("y",) + START[1:]), (), (), (("p", "before"), "cut"), "on")
+        self.assertEqual(chosen(stop=0, choice=BEGIN, moment=FIRST, upgrade=upgrade), opened)
+        told = way(to="any", moment=opened, words=START, upgrade=upgrade)
+        self.assertEqual(told, way(upgrade, START, moment=opened, to="any"))
+        self.assertTrue(shows_way(to="any", moment=opened, value=told, words=START, upgrade=upgrade))
+        self.assertEqual(way(upgrade, START), way(upgrade, START, moment=None, to="new"))
+        self.assertEqual(way(upgrade, START), way(upgrade, START, moment=FIRST))
+        for call in (
+            lambda: chosen(upgrade, FIRST, BEGIN, 0), lambda: way(upgrade, START, opened),
+            lambda: shows_way(upgrade, START, told, opened),
+        ):
+            with self.assertRaises(TypeError):
+                call()
 
     def test_methods_by_position_and_by_name(self):
         step = ("p", "before")
@@ -190,6 +223,9 @@ class Calls(unittest.TestCase):
                             outcome(call, *arguments[:place], value, *arguments[place + 1:])
             outcome(Upgrade, self.release, "none", "one", leanings=value)
             outcome(self.upgrade.program, value)
+            outcome(chosen, self.upgrade, FIRST, BEGIN, stop=value)
+            outcome(way, self.upgrade, START, moment=value)
+            outcome(shows_way, self.upgrade, START, way(self.upgrade, START), moment=value)
             self.assertEqual(repr(value), repr(before))
 
     def test_calls_do_not_change_the_release_and_the_upgrade(self):

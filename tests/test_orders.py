@@ -5,54 +5,12 @@ import unittest
 
 from scriptsamid.errors import BadWords, Endless, Failed
 from scriptsamid.orders import one_end, plain, shows_one_end, shows_some_order, some_order
-from scriptsamid.programs import done
 from scriptsamid.releases import Release
 from scriptsamid.upgrades import Upgrade
-from samples import ANY_VALUES, TOWNS, WEB, bent, both, edition, package, town, upgrade_of
-
-XX, XY, YX, YY = list(itertools.product("xy", repeat=2))
-PL, PB, QL, QB = ("p", "lay"), ("p", "behind"), ("q", "lay"), ("q", "behind")
-
-
-def pair_of(one, other, **sets):
-    """The upgrade to p and q with these commands behind, with triggers t of p and u of q."""
-    parts = [
-        package("p", edition(programs=[("behind", *one)]), triggers=[("t", "set a y")]),
-        package("q", edition(programs=[("behind", *other)]), triggers=[("u", "set b y")]),
-    ]
-    return upgrade_of(parts, **sets)
-
-
-PARTS = pair_of(["set a y"], ["copy a to b"])
-WAKING = pair_of(["set a y"], ["if a = y", "  wake u"])
-# Behind p, q fails.
-FAILING = pair_of(["set a y"], ["if a = y", "  fail"])
-BAD = pair_of(["set a y"], ["fail"])
-ALIKE = pair_of(["set a y", "wake u"], ["set b y", "wake t"])
-
-
-def samples():
-    """Upgrades of several releases, with words."""
-    for sets in TOWNS:
-        release = town(*sets)
-        for elder, newer in itertools.permutations(release.sets, 2):
-            for words in (("x", "x", "x"), ("y", "x", "z"), ("x", "y", "y")):
-                yield Upgrade(release, elder, newer), words
-    for upgrade in (PARTS, WAKING, FAILING, BAD, ALIKE):
-        for words in (XX, XY, YX, YY):
-            yield upgrade, words
-
-
-def row_end(upgrade, words, row):
-    """The (words, wakes) behind a row of steps, None if a step fails."""
-    wakes = ()
-    for step in row:
-        words, more, failed = done(upgrade.release, upgrade.program(step), words)
-        if failed:
-            return None
-        wakes = both(wakes, more)
-    return words, wakes
-
+from samples import (
+    ALIKE, ANY_VALUES, BAD, FAILING, PARTS, PB, PL, QB, QL, WAKING, WEB, XX, XY, YX, YY, bent, edition, numbered,
+    package, pair_of, row_end, town_upgrades, upgrade_of,
+)
 
 def beginnings(upgrade):
     """All rows of steps as orders begin, by size."""
@@ -64,10 +22,6 @@ def beginnings(upgrade):
 
 def in_told_order(upgrade, row):
     return tuple(step for step in upgrade.steps if step in row)
-
-
-def numbered(upgrade, row):
-    return tuple(upgrade.steps.index(step) for step in row)
 
 
 class Plain(unittest.TestCase):
@@ -170,7 +124,7 @@ class Plain(unittest.TestCase):
         self.assertEqual(self.triggers(self.waking(["wake t"], [("t", *turning)])), ("Endless", ("t",)))
 
     def test_against_the_told_order_step_by_step(self):
-        for upgrade, words in samples():
+        for upgrade, words in town_upgrades():
             end = row_end(upgrade, words, upgrade.steps)
             if end is None:
                 many = [row_end(upgrade, words, upgrade.steps[:many]) for many in range(7)].index(None)
@@ -222,7 +176,7 @@ class OneEnd(unittest.TestCase):
 
     def test_against_a_plain_look_at_all_orders(self):
         kinds = set()
-        for upgrade, words in samples():
+        for upgrade, words in town_upgrades():
             told = one_end(upgrade, words)
             kinds.add(told[0])
             self.assertEqual(told, self.plainly(upgrade, words))
@@ -369,7 +323,7 @@ class SomeOrder(unittest.TestCase):
 
     def test_against_a_plain_look_at_all_orders(self):
         kinds = set()
-        for upgrade, words in samples():
+        for upgrade, words in town_upgrades():
             told = some_order(upgrade, words)
             kinds.add(told[0])
             self.assertEqual(told, self.plainly(upgrade, words))
