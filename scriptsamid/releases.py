@@ -9,8 +9,9 @@ class Release:
     """A release that was read from its text.
 
     text, cells, packages and sets are what the document promises. For the other files of the package there are
-    words_of, the words of the cells by their names; triggers; homes, the packages of the triggers by their names;
-    parts, the packages by their names; and members, for each set the editions of its packages by their names.
+    words_of, the words of the cells by their names; owned, the own cells; triggers; homes, the packages of the triggers
+    by their names; parts, the packages by their names; and members, for each set the editions of its packages by their
+    names.
     """
 
     def __init__(self, text):
@@ -23,6 +24,7 @@ class Release:
         self.packages = tuple(draft.packages)
         self.sets = tuple(draft.sets)
         self.words_of = draft.cells
+        self.owned = tuple(draft.owned)
         self.triggers = tuple(draft.triggers)
         self.parts = draft.packages
         self.homes = {trigger: name for name in draft.packages for trigger in draft.packages[name].at_programs}

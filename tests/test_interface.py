@@ -8,14 +8,19 @@ import unittest
 
 from scriptsamid.again import again, shows_again
 from scriptsamid.back import back, could, shows_back, shows_could
+from scriptsamid.desk import Desk
 from scriptsamid.errors import NoProgram, ScriptError
+from scriptsamid.houses import House
 from scriptsamid.leanings import fewest, shows_fewest
 from scriptsamid.orders import one_end, plain, shows_one_end, shows_some_order, some_order
 from scriptsamid.programs import cuts, done, first_words, is_program, is_words, program_at
 from scriptsamid.releases import Release
 from scriptsamid.runs import choices, chosen, good, shows_bad
+from scriptsamid.texts import read_house, read_run, show_house, show_run, show_words
+from scriptsamid.trains import changed, kept, lets, skipped, why_not
 from scriptsamid.upgrades import Upgrade
 from scriptsamid.ways import shows_way, turning, way
+from rows import BEGIN_LAY, HOME, state
 from samples import ANY_VALUES, HOUSE, WEB
 
 # The parameters of each function and class; those behind a * are passed by name alone.
@@ -43,6 +48,16 @@ LISTED = {
     "ways": {
         "way": "upgrade words * moment to", "shows_way": "upgrade words value * moment to", "turning": "upgrade words",
     },
+    "trains": {
+        "kept": "release name", "lets": "release", "why_not": "release elder newer", "skipped": "release",
+        "changed": "release other",
+    },
+    "houses": {"House": "release name words"},
+    "texts": {
+        "show_words": "words", "show_run": "run", "read_run": "text", "show_house": "house",
+        "read_house": "release text",
+    },
+    "desk": {"Desk": "text"},
 }
 # The methods that are listed for a class, with their parameters behind self.
 METHODS = {
@@ -53,7 +68,16 @@ METHODS = {
             "counter": "step",
         },
     },
+    "houses": {
+        "House": {
+            "__init__": "release name words", "own": "cell word", "upgrade": "name", "do": "choice stop", "offers": "",
+            "wise": "", "__contains__": "x", "trial": "", "tried": "look",
+        },
+    },
+    "desk": {"Desk": {"__init__": "text", "say": "line"}},
 }
+# The parameters, by their places, that take only what is described, beside releases, upgrades and houses.
+DESCRIBED = [(could, 2), (shows_could, 2), (show_words, 0), (show_run, 0)]
 START = ("x", "x", "x", "y")
 PROGRAM = (("set", "a", "y"), ("wake", "t"), ("if", "b", "x", (("fail",),), ()))
 COUNTER = (("set", "a", "x"),)
@@ -69,6 +93,13 @@ def parameters(call):
             told.append("*")
         told.append(parameter.name)
     return " ".join(told)
+
+
+def plainly(value):
+    """A value, or all that is told of a house or of that of a desk."""
+    if isinstance(value, Desk):
+        return "desk", plainly(value.house)
+    return state(value) if isinstance(value, House) else value
 
 
 def outcome(call, *arguments, **named):
@@ -116,6 +147,10 @@ class Calls(unittest.TestCase):
     def setUp(self):
         self.release = Release(HOUSE)
         self.upgrade = Upgrade(self.release, "none", "one")
+        self.house = House(HOME, "none", ("x", "x", "y", "x"))
+        self.house.own("d", "y")
+        self.house.upgrade("one")
+        self.house.do(BEGIN_LAY)
 
     def calls(self):
         """Each function of the interface with arguments that it takes, in their sequence."""
@@ -138,6 +173,10 @@ class Calls(unittest.TestCase):
             (choices, [upgrade, FIRST]), (chosen, [upgrade, FIRST, BEGIN]), (good, [upgrade, START]),
             (shows_bad, [upgrade, START, good(upgrade, START)]), (way, [upgrade, START]),
             (shows_way, [upgrade, START, way(upgrade, START)]), (turning, [upgrade, START]),
+            (kept, [release, "one"]), (lets, [HOME]), (why_not, [release, "none", "one"]), (skipped, [HOME]),
+            (changed, [HOME, HOME]), (House, [release, "none", START]), (show_words, [START]),
+            (show_run, [good(upgrade, START)]), (read_run, [show_run(good(upgrade, START))]),
+            (show_house, [self.house]), (read_house, [HOME, show_house(self.house)]), (Desk, [HOUSE]),
         ]
 
     def test_all_that_is_listed_is_called(self):
@@ -148,7 +187,7 @@ class Calls(unittest.TestCase):
         for call, arguments in self.calls():
             names = [name for name in inspect.signature(call).parameters][:len(arguments)]
             named = dict(list(zip(names, arguments))[::-1])
-            self.assertEqual(call(*arguments), call(**named), call)
+            self.assertEqual(plainly(call(*arguments)), plainly(call(**named)), call)
             if call.__name__.startswith("shows"):
                 self.assertIs(call(**named), True, call)
         with self.assertRaises(NoProgram):
@@ -184,9 +223,33 @@ class Calls(unittest.TestCase):
         self.assertEqual(self.upgrade.counter(step), self.upgrade.counter(step=step))
         self.assertEqual(self.upgrade.counter(step), (("set", "a", "z"),))
 
+    def test_methods_of_houses_and_desks_by_name(self):
+        house = House(HOME, "none", ("x", "x", "x", "x"))
+        house.own(word="y", cell="c")
+        house.upgrade(name="one")
+        house.do(stop=0, choice=BEGIN_LAY)
+        house.do(choice=("again",))
+        self.assertEqual(house.tried(look=show_house), show_house(house))
+        desk = Desk(text=HOME.text)
+        for line in show_house(house).split("\n")[2:]:
+            desk.say(line=line)
+        self.assertEqual(state(desk.house), state(house))
+
+    def test_calls_do_not_change_a_house(self):
+        before = state(self.house)
+        for call, arguments in self.calls():
+            call(*arguments)
+        self.house.wise()
+        list(self.house.offers())
+        self.assertEqual(state(self.house), before)
+        for call in (lambda: self.house.own("c", "y"), lambda: self.house.upgrade("two"), lambda: self.house.do(0)):
+            with self.assertRaises(ScriptError):
+                call()
+        self.assertEqual(state(self.house), before)
+
     def test_equal_calls_return_equal_results(self):
         for call, arguments in self.calls():
-            self.assertEqual(call(*arguments), call(*copy.deepcopy(arguments)), call)
+            self.assertEqual(plainly(call(*arguments)), plainly(call(*copy.deepcopy(arguments))), call)
         self.assertEqual(list(self.upgrade.orders()), list(self.upgrade.orders()))
 
     def test_attributes_are_set_when_an_object_is_made(self):
@@ -200,9 +263,14 @@ class Calls(unittest.TestCase):
             self.assertTrue(hasattr(self.upgrade, name))
         for row in (self.upgrade.leanings, self.upgrade.steps):
             self.assertIs(row.__class__, tuple)
+        for house in (House(HOME, "none", ("x", "x", "y", "x")), Desk(WEB).house):
+            for name in ("release", "name", "words", "moment", "history"):
+                self.assertTrue(hasattr(house, name))
 
     def test_returned_sequences_are_tuples(self):
-        told = [call(*arguments) for call, arguments in self.calls() if call not in (Release, Upgrade)]
+        made = (Release, Upgrade, House, Desk, read_house)
+        told = [call(*arguments) for call, arguments in self.calls() if call not in made]
+        told += [self.house.words, self.house.moment, self.house.history, self.house.wise(), *self.house.offers()]
         told += [self.upgrade.steps, next(self.upgrade.orders()), self.upgrade.program(("p", "lay"))]
         told += [outcome(plain, Upgrade(self.release, "one", "none"), START)]
         told += [some_order(Upgrade(self.release, "one", "none"), START), could(self.release, COUNTER, (START,))]
@@ -218,9 +286,9 @@ class Calls(unittest.TestCase):
             before = copy.deepcopy(value)
             for call, arguments in self.calls():
                 for place in range(len(arguments)):
-                    if arguments[place].__class__ not in (Release, Upgrade) and (call, place) != (could, 2):
-                        if (call, place) != (shows_could, 2):
-                            outcome(call, *arguments[:place], value, *arguments[place + 1:])
+                    described = arguments[place].__class__ in (Release, Upgrade, House)
+                    if not described and (call, place) not in DESCRIBED:
+                        outcome(call, *arguments[:place], value, *arguments[place + 1:])
             outcome(Upgrade, self.release, "none", "one", leanings=value)
             outcome(self.upgrade.program, value)
             outcome(chosen, self.upgrade, FIRST, BEGIN, stop=value)

@@ -1,4 +1,4 @@
-"""Section 3 for runs with stops: what is told of them is tried by choices and stops of all kinds."""
+"""Section 3 for runs with stops and for houses: what is told of them is tried by choices and stops of all kinds."""
 
 import itertools
 import random
@@ -7,13 +7,17 @@ import unittest
 from scriptsamid.again import again
 from scriptsamid.back import back
 from scriptsamid.errors import ScriptError
+from scriptsamid.houses import House
 from scriptsamid.leanings import fewest
 from scriptsamid.orders import one_end, plain
 from scriptsamid.runs import choices, chosen, good
+from scriptsamid.texts import read_house, read_run, show_house, show_run
+from scriptsamid.trains import kept, lets
 from scriptsamid.upgrades import Upgrade
 from scriptsamid.ways import way
 import moving
-from randoms import some_upgrades
+from randoms import some_release, some_upgrades
+from rows import state
 from samples import LAID, LOOPING, PARTS, STUCK, TWICE, UNTAKEN, XX, row_end, town_upgrades
 
 
@@ -219,6 +223,53 @@ class Runs(unittest.TestCase):
                 self.assertNotEqual((moment[0], moment[4]), (plain(upgrade, words), "on"))
             except ScriptError:
                 pass
+
+
+class Houses(unittest.TestCase):
+    """Guarantees (e) and (f)."""
+
+    def led(self, release, dice):
+        """A house that is led on at random, given anew behind each of its deeds."""
+        house = House(release, release.sets[0], kept(release, release.sets[0])[0])
+        for _ in range(25):
+            yield house
+            if house.moment is None:
+                house.own("c", dice.choice("xy"))
+                later = [release.sets[other] for one, other in lets(release) if release.sets[one] == house.name]
+                if later and dice.randrange(3):
+                    house.upgrade(dice.choice(later))
+            else:
+                name = [deed[1] for deed in house.history if deed[0] == "upgrade"][-1]
+                choice = dice.choice(list(house.offers()))
+                house.do(choice, dice.choice(moving.stops(Upgrade(release, house.name, name), house.moment, choice)))
+        yield house
+
+    def test_a_house_has_kept_words_and_what_is_let_is_good(self):
+        dice = random.Random(9)
+        came = 0
+        for number in range(70):
+            release = some_release(number)
+            for house in self.led(release, dice):
+                if house.moment is None:
+                    came += house.name != release.sets[0]
+                    self.assertIn(house.words, kept(release, house.name))
+                    for one, other in lets(release):
+                        if release.sets[one] == house.name:
+                            self.assertIsNone(good(Upgrade(release, house.name, release.sets[other]), house.words))
+        self.assertGreater(came, 50)
+
+    def test_what_was_written_is_read_back(self):
+        dice = random.Random(10)
+        amid = 0
+        for number in range(70):
+            release = some_release(number)
+            for house in self.led(release, dice):
+                other = read_house(release, show_house(house))
+                self.assertEqual(state(other), state(house))
+                amid += house.moment is not None
+                run = tuple(deed[1:] for deed in house.history if deed[0] == "do")
+                self.assertEqual(read_run(show_run(run)), run)
+        self.assertGreater(amid, 100)
 
 
 if __name__ == "__main__":
