@@ -43,7 +43,7 @@ class Moves:
 
     def steps_behind(self, choice, target, rest):
         """The steps that are done when the program of a choice came to its end; rest are those without its target."""
-        if choice[0] == "back" or target[0] == "at":
+        if choice[0] == "back":
             return rest
         return tuple([step for step in self.plan.steps if step in rest or step == target])
 

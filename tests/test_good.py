@@ -142,7 +142,10 @@ class Good(unittest.TestCase):
     def test_refused(self):
         for value in [*ANY_VALUES, list(XX), XX + ("x",), ("x", "z")]:
             if value != XX:
-                for call in (lambda: good(PARTS, value), lambda: shows_bad(PARTS, value, ())):
+                for call in (
+                    lambda: good(PARTS, value), lambda: shows_bad(PARTS, value, ()), lambda: shows_bad(PARTS, value, 0),
+                    lambda: shows_bad(PARTS, value, run_of(("turn",))),
+                ):
                     with self.assertRaises(BadWords) as caught:
                         call()
                     self.assertIs(caught.exception.value, value)

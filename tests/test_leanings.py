@@ -191,7 +191,10 @@ class Fewest(unittest.TestCase):
     def test_refused(self):
         for value in [*ANY_VALUES, list(XX), XX + ("x",), ("x", "z")]:
             if value != XX:
-                for call in (lambda: fewest(PARTS, value), lambda: shows_fewest(PARTS, value, ((), ()))):
+                for call in (
+                    lambda: fewest(PARTS, value), lambda: shows_fewest(PARTS, value, ((), ())),
+                    lambda: shows_fewest(PARTS, value, 0),
+                ):
                     with self.assertRaises(BadWords) as caught:
                         call()
                     self.assertIs(caught.exception.value, value)

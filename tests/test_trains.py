@@ -147,6 +147,13 @@ class Skipped(unittest.TestCase):
         self.assertIsNone(skipped(SHUT))
         self.assertIsNone(skipped(row_of([package("p", edition())])))
 
+    def test_straight_it_is_not_let(self):
+        # With the first edition there it does not fail, and comes to other words than it would straight.
+        parts = [package("p", edition(lays=["a y"]), edition(programs=[("before", "if a = x", "  fail")]))]
+        release = row_of(parts, "set one p 1", "set two p 2")
+        self.assertEqual(lets(release), ((0, 1), (1, 2)))
+        self.assertIsNone(skipped(release))
+
     def test_the_least_one(self):
         self.assertEqual(skipped(OVER), (0, 1, 2, XX))
 
